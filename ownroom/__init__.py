@@ -1,0 +1,1 @@
+"""Ownroom: a small kernel in which each task has a room of its own."""
