@@ -2,6 +2,8 @@
 
 import os
 
+from ownroom.errors import KernelError
+
 ROOT = os.path.dirname(os.path.dirname(os.path.abspath(__file__)))
 
 LONG = 10 ** 60 - 1
@@ -19,3 +21,15 @@ class Draws:
 
     def one_of(self, things):
         return things[self.below(len(things))]
+
+
+def outcome(deed, *given):
+    """What a deed tells or, where it is refused, the name of the refusal."""
+    try:
+        return "told", deed(*given)
+    except KernelError as refusal:
+        return "refused", type(refusal).__name__
+
+
+def refused(name):
+    return "refused", name

@@ -111,6 +111,16 @@ class TestForms(unittest.TestCase):
             for alias in node.names:
                 self.assertIn(alias.name, tops, f"{name}:{node.lineno}")
 
+    def test_no_two_files_draw_from_one_another(self):
+        drawn = {name: set() for name in package_files()}
+        for name, node in nodes(ast.ImportFrom):
+            drawn[name].add(node.module.split(".")[1] + ".py")
+        while drawn:
+            ready = [name for name in drawn if not drawn[name] & set(drawn)]
+            self.assertTrue(ready, f"these draw from one another: {sorted(drawn)}")
+            for name in ready:
+                del drawn[name]
+
     def test_defs_and_classes(self):
         for name, node in nodes(ast.FunctionDef):
             given = node.args
@@ -161,6 +171,14 @@ class TestNames(unittest.TestCase):
                 self.assertNotIn(bound, UNUSED, name)
                 if not isinstance(node, ast.FunctionDef) or bound not in own_methods():
                     self.assertFalse(hasattr(builtins, bound), f"{name}: {bound}")
+
+    def test_locals_are_not_called_like_classes_and_imports(self):
+        for name, tree in trees():
+            tops = {n.name for n in tree.body if isinstance(n, ast.ClassDef)}
+            tops |= {alias.name for n in tree.body if isinstance(n, ast.ImportFrom) for alias in n.names}
+            bound = {n.arg for n in ast.walk(tree) if isinstance(n, ast.arg)}
+            bound |= {n.id for n in ast.walk(tree) if isinstance(n, ast.Name) and isinstance(n.ctx, ast.Store)}
+            self.assertEqual(tops & bound, set(), name)
 
     def test_names_of_pythons_own(self):
         for name, node in nodes(ast.Name):
