@@ -32,5 +32,10 @@ def recover(disk):
         return 0
     for k in range(many):
         disk.write(head[1 + k], disk.read(FIRST_LIST + k))
-    disk.write(0, [0] * BLOCK_NUMBERS)
+    forget(disk)
     return many
+
+
+# A commit that fell is brought neither to its end nor to nothing; so this is for disks that are written anew.
+def forget(disk):
+    disk.write(0, [0] * BLOCK_NUMBERS)

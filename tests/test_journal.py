@@ -1,8 +1,8 @@
 import unittest
 
-from helper import Draws, outcome, refused
+from helper import Draws, disk_of, outcome, refused
 from ownroom.disks import Disk
-from ownroom.journal import commit, recover
+from ownroom.journal import commit, forget, recover
 
 JOURNAL = 28
 
@@ -22,13 +22,6 @@ def used_disk(blocks, commits):
     disk = Disk(blocks)
     for seed in range(commits):
         commit(disk, changes_of(1 + seed * 7 % min(24, blocks - JOURNAL), blocks, 100 * seed))
-    return disk
-
-
-def disk_of(image):
-    disk = Disk(len(image))
-    for n, block in enumerate(image):
-        disk.write(n, block)
     return disk
 
 
@@ -150,6 +143,26 @@ class TestRecoverWhereNoneFell(unittest.TestCase):
         self.assertEqual(outcome(disk.write, 50, numbers(1)), refused("Fallen"))
         disk.rise()
         self.unchanged(disk)
+
+
+class TestForget(unittest.TestCase):
+    def test_a_commit_that_fell_does_not_come_back(self):
+        start, changes = used_disk(60, 2), changes_of(5, 60, 11)
+        for at in range(writes_of(start.image(), commit, changes)):
+            disk = disk_of(start.image())
+            disk.fall(at)
+            self.assertEqual(outcome(commit, disk, changes), refused("Fallen"))
+            disk.rise()
+            left = rest(disk)
+            self.assertIsNone(forget(disk))
+            self.assertEqual((recover(disk), rest(disk)), (0, left))
+            commit(disk, changes)
+            self.assertEqual(rest(disk), rest_with(start, changes))
+
+    def test_whatever_stands_in_its_blocks(self):
+        disk = disk_of([[65535] * 16] * 60)
+        forget(disk)
+        self.assertEqual((recover(disk), rest(disk)), (0, [[65535] * 16] * 32))
 
 
 class TestFalls(unittest.TestCase):

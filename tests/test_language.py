@@ -2,6 +2,7 @@
 
 import ast
 import builtins
+import functools
 import os
 import re
 import unittest
@@ -39,10 +40,12 @@ def text_of(name):
         return file.read()
 
 
+@functools.cache
 def trees():
     return [(name, ast.parse(text_of(name))) for name in package_files()]
 
 
+@functools.cache
 def nodes(*classes):
     return [(name, node) for name, tree in trees() for node in ast.walk(tree) if isinstance(node, classes)]
 
@@ -59,10 +62,12 @@ def names_bound(node):
     return [node.name]
 
 
+@functools.cache
 def own_methods():
     return {part.name for name, node in nodes(ast.ClassDef) for part in node.body if isinstance(part, ast.FunctionDef)}
 
 
+@functools.cache
 def own_values():
     return {node.attr for name, node in nodes(ast.Attribute) if isinstance(node.ctx, ast.Store)}
 
