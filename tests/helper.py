@@ -5,12 +5,15 @@ import os
 from ownroom.diskfiles import format_disk, mount
 from ownroom.disks import Disk
 from ownroom.errors import KernelError
-from ownroom.files import Files
-from ownroom.plainnodes import PlainNodes
+from ownroom.plainfiles import PlainFiles
+from ownroom.trees import tree
 
 ROOT = os.path.dirname(os.path.dirname(os.path.abspath(__file__)))
 
 LONG = 10 ** 60 - 1
+
+# Forty names, as many as a dir has slots.
+NAMES = [first + second for first in "abcdefgh" for second in "vwxyz"]
 
 
 class Draws:
@@ -58,10 +61,6 @@ def disk_files(blocks):
     return mount(formatted(blocks))
 
 
-def plain_files(blocks):
-    return Files(PlainNodes(blocks))
-
-
 def path_behind(path, name):
     return path + name if path == "/" else f"{path}/{name}"
 
@@ -96,9 +95,9 @@ class FileDeeds:
 
     def refuse(self, files, name, *call):
         """A call is refused, and all is as it was."""
-        before = all_told(files)
+        before = all_told(files), tree(files)
         self.assertEqual(outcome(getattr(files, call[0]), *call[1:]), refused(name), call)
-        self.assertEqual(all_told(files), before, call)
+        self.assertEqual((all_told(files), tree(files)), before, call)
 
 
 class OnADisk:
@@ -106,4 +105,4 @@ class OnADisk:
 
 
 class Plain:
-    files = staticmethod(plain_files)
+    files = PlainFiles

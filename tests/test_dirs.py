@@ -1,12 +1,10 @@
 import unittest
 
-from helper import formatted, outcome, refused
+from helper import NAMES, formatted, outcome, refused
 from ownroom.dirs import (names_in, node_named, put_slots, refuse_full, slots_of, slots_with, slots_without, way_along,
                           way_to_new)
 from ownroom.nodes import Nodes
 from ownroom.plainnodes import PlainNodes
-
-NAMES = [first + second for first in "abcdefgh" for second in "vwxyz"]
 
 
 class TestSlots(unittest.TestCase):

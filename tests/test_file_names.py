@@ -2,9 +2,8 @@
 
 import unittest
 
-from helper import FileDeeds, OnADisk, Plain, path_behind, use_up
+from helper import NAMES, FileDeeds, OnADisk, Plain, path_behind, use_up
 
-NAMES = [first + second for first in "abcdefgh" for second in "vwxyz"]
 BAD_PATHS = ("", "a", "//", "/a/", "/abcdefg", "/A", "/a b", "/a1", "/a//b", "/.", "/a" * 1999 + "/B")
 
 
@@ -417,6 +416,54 @@ class Refusals(Deeds):
         self.refuse(files, "NoSpace", "make", "/d/x")
         self.refuse(files, "NoSpace", "make_dir", "/d/x")
         self.assertEqual(files.make("/x"), 7)
+
+    def test_the_first_told_where_all_is_used_up(self):
+        files = self.files(60)
+        self.full_dir(files, "/d")
+        files.make_dir("/e")
+        files.make_dir("/e/g")
+        for name in NAMES[:19]:
+            files.make("/" + name)
+        use_up(files, range(5, 24), 0)
+        self.assertEqual(files.free(), (0, 0))
+        # Behind each call and what is told for it stands what would be told else, in this order.
+        for call, name in (
+                (("make", "/d/av/"), "BadName"),  # NotDir
+                (("make", "/d/x/"), "BadName"),  # NoName
+                (("make_dir", "/d/AV"), "BadName"),  # TooMany, NoNode, NoSpace
+                (("link", "/d", "/d/X"), "BadName"),  # IsDir, TooMany, NoSpace
+                (("link", "//", "/d/x"), "BadName"),
+                (("move", "/", "/d/x/"), "BadName"),  # NotAllowed, NoName
+                (("move", "/nope", ""), "BadName"),  # NoName
+                (("unlink", "/d/"), "BadName"),  # IsDir
+                (("remove_dir", "/d//"), "BadName"),  # NotEmpty
+                (("make", "/av/x/y"), "NotDir"),  # NoNode, NoSpace
+                (("make", "/x/y"), "NoName"),  # NoNode
+                (("make_dir", "/d/x/y"), "NoName"),  # NoNode, NoSpace
+                (("link", "/e", "/av/x"), "IsDir"),  # NotDir
+                (("link", "/e", "/d/av"), "IsDir"),  # Taken, TooMany
+                (("link", "/e", "/d/x"), "IsDir"),  # TooMany
+                (("link", "/nope", "/d/av"), "NoName"),  # Taken, TooMany
+                (("link", "/av/x", "/nope/x"), "NotDir"),  # NoName
+                (("link", "/av", "/e/g/x/y"), "NoName"),  # NoSpace
+                (("link", "/av", "/d/av"), "Taken"),  # TooMany, NoSpace
+                (("link", "/av", "/d/x"), "TooMany"),  # NoSpace
+                (("link", "/av", "/e/g/x"), "NoSpace"),
+                (("remove_dir", "/"), "NotAllowed"),  # NotEmpty
+                (("move", "/", "/"), "NotAllowed"),  # Taken
+                (("move", "/", "/d/x"), "NotAllowed"),  # Inside, TooMany
+                (("move", "/", "/av/x"), "NotAllowed"),  # NotDir
+                (("move", "/nope", "/d/av"), "NoName"),  # Taken, TooMany
+                (("move", "/d", "/d/av"), "Taken"),  # Inside, TooMany
+                (("move", "/e", "/e/g"), "Taken"),  # Inside
+                (("move", "/d", "/d/x"), "Inside"),  # TooMany
+                (("move", "/e", "/e/g/x"), "Inside"),  # NoSpace
+                (("move", "/e", "/d/x"), "TooMany"),
+                (("move", "/d", "/e/g/x"), "NoSpace"),
+                (("make", "/d/av"), "Taken"),  # TooMany, NoNode
+                (("make", "/d/x"), "TooMany"),  # NoNode
+                (("make", "/e/g/x"), "NoNode")):  # NoSpace
+            self.refuse(files, name, *call)
 
     def test_no_space_for_a_new_slot(self):
         for slots in range(40):

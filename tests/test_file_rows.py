@@ -5,10 +5,12 @@ import re
 import unittest
 from unittest import mock
 
-from helper import LONG, Draws, all_told, disk_of, formatted, outcome, path_behind, plain_files, refused
+from helper import LONG, Draws, all_told, disk_of, formatted, outcome, path_behind, refused
 from ownroom import errors
 from ownroom.diskfiles import mount
 from ownroom.journal import commit
+from ownroom.plainfiles import PlainFiles
+from ownroom.trees import tree
 
 FEW_NAMES = ("a", "b", "c", "dd", "eeeeee")
 MANY_NAMES = tuple(first + second for first in "abcdefghijklmnopqrst" for second in "vwxyz")
@@ -44,6 +46,23 @@ class Model:
         sizes = [8 * len(slots) for slots in self.dirs.values()] + [len(cells) for cells in self.cells.values()]
         used = sum(-(-size // 16) + (size > 64) for size in sizes)
         return 24 - len(sizes), self.blocks - used
+
+    def tree(self, node=0, path=""):
+        rows = []
+        for name, inner in [slot for slot in self.dirs[node] if slot]:
+            if inner in self.dirs:
+                rows += [(f"{path}/{name}", "dir", 1, [])] + self.tree(inner, f"{path}/{name}")
+            else:
+                rows.append((f"{path}/{name}", "file", self.links(inner), list(self.cells[inner])))
+        return sorted(rows)
+
+    def used_up(self):
+        """What there is no more of."""
+        nodes, blocks = self.free()
+        slots = [len([slot for slot in slots if slot]) for slots in self.dirs.values()]
+        cells = [len(cells) for cells in self.cells.values()]
+        return {what for what, is_so in (("nodes", nodes == 0), ("blocks", blocks == 0), ("slots", 40 in slots),
+                                         ("cells", 320 in cells)) if is_so}
 
     def names_of(self, path):
         if not re.fullmatch(r"/|(/[a-z]{1,6})+", path):
@@ -305,21 +324,24 @@ ROWS = [(Row, FEW_NAMES, blocks) for blocks in (1, 2, 3, 8, 20, 40, 192)] \
 
 class TestRows(unittest.TestCase):
     def test_both_makes_and_the_model(self):
-        met = set()
+        met, used_up = set(), set()
         for seed, (row_class, names, blocks) in enumerate(ROWS * 2):
             row, model = row_class(seed, names), Model(blocks)
             disk = formatted(blocks)
-            makes = (mount(disk), plain_files(blocks))
+            makes = (mount(disk), PlainFiles(blocks))
             for turn in range(500):
                 call = row.call(model)
                 told = self.one(call, model, makes)
                 met.add((call[0], told[1] if told[0] == "refused" else "told"))
-                self.assertEqual([files.free() for files in makes], [model.free()] * 2)
+                want = model.free(), model.tree()
+                self.assertEqual([(files.free(), tree(files)) for files in makes], [want] * 2, call)
+                used_up |= model.used_up()
                 if turn % 10 == 0:
                     want = all_told(model)
                     self.assertEqual([all_told(files) for files in makes], [want] * 2)
                     self.assertEqual(all_told(mount(disk_of(disk.image()))), all_told(model.mounted()))
         self.assertEqual(WANTED - met, set())
+        self.assertEqual(used_up, {"nodes", "blocks", "slots", "cells"})
 
     def one(self, call, model, makes):
         given = copy.deepcopy(call)
